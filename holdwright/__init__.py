@@ -1,0 +1,1 @@
+"""Holdwright: programs whose writings are shown."""
