@@ -1,10 +1,18 @@
 """The steps that a helper is made of, each kind a class of its own."""
 
 
-# What the kinds have alike. Each of them tells itself by `told`, and the rows of text that write it by `as_rows`.
+# What the kinds have alike. Each of them tells itself by `told`, the rows of text that write it by `as_rows`, and
+# the names that its own row has by `uses`: a number's as it stands, a row's as the thing that its length is. So are
+# those that it sets told by `writes`; `blocks` are the steps within it.
 class Step:
     def __init__(self, at):
         self.at = at
+
+    def writes(self):
+        return ()
+
+    def blocks(self):
+        return ()
 
 
 class Let(Step):
@@ -15,6 +23,12 @@ class Let(Step):
 
     def told(self):
         return ("let", self.at, self.name, self.total.told())
+
+    def uses(self):
+        return (self.name,) + self.total.things()
+
+    def writes(self):
+        return (self.name,)
 
     def as_rows(self):
         return [" ".join(["let", self.name, "=", self.total.text()])]
@@ -31,6 +45,12 @@ class Divide(Step):
     def told(self):
         return ("divide", self.at, self.name, self.word, self.total.told(), self.by.told())
 
+    def uses(self):
+        return (self.name,) + self.total.things() + self.by.things()
+
+    def writes(self):
+        return (self.name,)
+
     def as_rows(self):
         return [" ".join(["let", self.name, "=", self.total.text(), self.word, self.by.text()])]
 
@@ -44,6 +64,12 @@ class Fetch(Step):
 
     def told(self):
         return ("fetch", self.at, self.name, self.row, self.place.told())
+
+    def uses(self):
+        return (self.name, length_of(self.row)) + self.place.things()
+
+    def writes(self):
+        return (self.name,)
 
     def as_rows(self):
         return [" ".join(["let", self.name, "=", self.row, "at", self.place.text()])]
@@ -59,6 +85,9 @@ class Put(Step):
     def told(self):
         return ("put", self.at, self.row, self.place.told(), self.total.told())
 
+    def uses(self):
+        return (length_of(self.row),) + self.place.things() + self.total.things()
+
     def as_rows(self):
         return [" ".join(["put", self.row, "at", self.place.text(), "=", self.total.text()])]
 
@@ -72,6 +101,12 @@ class Make(Step):
     def told(self):
         return ("make", self.at, self.row, self.size.told())
 
+    def uses(self):
+        return (length_of(self.row),) + self.size.things()
+
+    def writes(self):
+        return (length_of(self.row),)
+
     def as_rows(self):
         return [" ".join(["row", self.row, "=", self.size.text()])]
 
@@ -83,6 +118,9 @@ class Claim(Step):
 
     def told(self):
         return ("claim", self.at, self.condition.told())
+
+    def uses(self):
+        return self.condition.things()
 
     def as_rows(self):
         return ["claim " + self.condition.text()]
@@ -97,6 +135,12 @@ class Choose(Step):
 
     def told(self):
         return ("choose", self.at, self.condition.told(), told_each(self.then), told_each(self.other))
+
+    def uses(self):
+        return self.condition.things()
+
+    def blocks(self):
+        return (self.then, self.other)
 
     def as_rows(self):
         rows = ["if " + self.condition.text()] + rows_of_steps(self.then)
@@ -120,6 +164,12 @@ class Repeat(Step):
             falls = (self.falls[0], self.falls[1].told())
         return ("repeat", self.at, self.condition.told(), told_pairs(self.keeps), falls, told_each(self.body))
 
+    def uses(self):
+        return self.condition.things()
+
+    def blocks(self):
+        return (self.body,)
+
     def as_rows(self):
         rows = ["while " + self.condition.text()] + rows_of_pairs("holds", self.keeps)
         if self.falls is not None:
@@ -137,6 +187,15 @@ class Call(Step):
     def told(self):
         return ("call", self.at, self.names, self.helper, told_each(self.given))
 
+    def uses(self):
+        found = list(self.names)
+        for total in self.given:
+            found.extend(total.things())
+        return tuple(found)
+
+    def writes(self):
+        return self.names
+
     def as_rows(self):
         words = ["call"]
         if len(self.names) > 0:
@@ -145,6 +204,10 @@ class Call(Step):
         if len(self.given) > 0:
             words.append(", ".join([total.text() for total in self.given]))
         return [" ".join(words)]
+
+
+def length_of(row):
+    return "#" + row
 
 
 def as_pairs(pairs):
