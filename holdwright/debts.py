@@ -3,7 +3,7 @@
 from holdwright.conditions import Compare, Every
 from holdwright.errors import TooMany
 from holdwright.steps import Call, Choose, Claim, Divide, Fetch, Let, Make, Repeat, length_of
-from holdwright.sums import Sum
+from holdwright.sums import Sum, once
 from holdwright.using import is_length, other_things, steps_within, things_written
 
 MOST_PATHS = 16
@@ -62,10 +62,6 @@ def count_paths(steps):
     if count > MOST_PATHS:
         raise TooMany(f"more than {MOST_PATHS} paths")
     return count
-
-
-def once(thing):
-    return Sum(((thing, 1),), 0)
 
 
 def at_most(one, other):

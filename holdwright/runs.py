@@ -2,6 +2,7 @@
 
 from holdwright.errors import Fault, NoRun
 from holdwright.steps import Call, Choose, Divide, Fetch, Let, Make, Put, Repeat, length_of
+from holdwright.sums import is_number
 from holdwright.using import bare_name, is_length, other_things
 
 
@@ -31,10 +32,6 @@ def is_fit(param, thing):
     if is_length(param):
         return isinstance(thing, (list, tuple)) and all([is_number(number) for number in thing])
     return is_number(thing)
-
-
-def is_number(thing):
-    return isinstance(thing, int) and not isinstance(thing, bool)
 
 
 def fault_unless(truth, kind, at):

@@ -48,6 +48,15 @@ class Sum:
         return "".join(written)
 
 
+# Truths are no numbers, though Python counts them among them.
+def is_number(what):
+    return isinstance(what, int) and not isinstance(what, bool)
+
+
+def once(thing):
+    return Sum(((thing, 1),), 0)
+
+
 def sum_of(pairs, number):
     weights = {}
     for thing, weight in pairs:

@@ -31,6 +31,18 @@ def as_sum(what):
     return what
 
 
+def anything(thing):
+    return ("any", thing)
+
+
+def let(thing, what):
+    return ("let", thing, as_sum(what))
+
+
+def hold(one, sign, other):
+    return ("hold", compare(one, sign, other))
+
+
 def drawn_condition(chance, depth):
     kind = chance.choice(("compare", "not", "and", "or")) if depth > 1 else "compare"
     if kind == "compare":

@@ -3,19 +3,7 @@ import unittest
 
 from holdwright.conditions import Every, Some, Turned
 from holdwright.going import along
-from support import as_sum, compare, total
-
-
-def anything(thing):
-    return ("any", thing)
-
-
-def let(thing, what):
-    return ("let", thing, as_sum(what))
-
-
-def hold(one, sign, other):
-    return ("hold", compare(one, sign, other))
+from support import anything, compare, hold, let, total
 
 
 class AlongTest(unittest.TestCase):
