@@ -11,13 +11,18 @@ def owed(debt):
     count = 0
     for row in debt.ahead:
         if row[0] == "any":
-            things[row[1]] = once("?" + str(count))
+            things[row[1]] = once(unknown(count))
             count = count + 1
         elif row[0] == "let":
             things[row[1]] = row[2].put_in(things)
         else:
             cases = cases_with(cases, row[1].put_in(things))
     return cases_with(cases, debt.condition.opposite().put_in(things))
+
+
+# What stands for the number of the any-row at this place among them.
+def unknown(place):
+    return "?" + str(place)
 
 
 def cases_with(cases, condition):

@@ -40,7 +40,15 @@ class Program:
 
 
 def written(program):
+    return text_of_rows(rows_of_program(program))
+
+
+def rows_of_program(program):
     rows = []
     for helper in program.helpers:
         rows.extend(helper.as_rows())
+    return rows
+
+
+def text_of_rows(rows):
     return "".join([row + "\n" for row in rows])

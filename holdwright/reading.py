@@ -45,6 +45,10 @@ def is_thing(word):
 def is_figure_row(word):
     if not 1 <= len(word) <= MOST_FIGURES or (word[0] == "0" and word != "0"):
         return False
+    return are_figures(word)
+
+
+def are_figures(word):
     return all(["0" <= sign <= "9" for sign in word])
 
 
