@@ -157,7 +157,8 @@ class MendTest(unittest.TestCase):
     new = rows[:5] + ["holds i <= n", "holds 0 <= i", "falls -i + n"] + rows[5:]
 
     def test_what_is_told_behind_it(self):
-        self.assertEqual(desk(self.rows, "text", "let by", "look", "why gives 3", "mend", "text", "let by", "why gives 3"),
+        asked = ("text", "let by", "look", "why gives 3", "mend", "text", "let by", "why gives 3")
+        self.assertEqual(desk(self.rows, *asked),
                          [*self.rows, "no", "up gives 3 denied", "up 0 1", "done", *self.new, "yes", "nothing"])
         self.assertEqual(desk(self.rows, "mend", "look")[1:],
                          [f"up {what} shown" for what in ("first 5", "first 6", "bound 7", "again 5", "again 6",
@@ -268,8 +269,9 @@ class WhyTest(unittest.TestCase):
 
 class OtherRowsTest(unittest.TestCase):
     def test_refused(self):
-        for row in ("", " ", "look ", " look", "look f", "Look", "looked", "let", "let  by", "let by ", "letby", "mend ",
-                    "mend f", "mended", "text ", "text f", "texts", "done", "yes", "refused", "helper f", "end", "a b c",
+        for row in ("", " ", "look ", " look", "look f", "Look", "looked", "let", "let  by", "let by ", "letby",
+                    "mend ", "mend f", "mended", "text ", "text f", "texts", "done", "yes", "refused", "helper f",
+                    "end", "a b c",
                     "#", "read", "\t", "let by f"):
             self.assertEqual(desk(PLAIN, row), ["refused"], row)
 
@@ -325,7 +327,8 @@ class RefusedTest(unittest.TestCase):
         chance = random.Random(345)
         for _ in range(60):
             rows = DrawnSense(chance).rows
-            rows[chance.randrange(len(rows))] = chance.choice(("end", "else", "let x = ", "holds 0 = 0", "x", "if 0 = 0"))
+            wrong = ("end", "else", "let x = ", "holds 0 = 0", "x", "if 0 = 0")
+            rows[chance.randrange(len(rows))] = chance.choice(wrong)
             try:
                 read(text_of(*rows))
             except NoText:
@@ -343,8 +346,8 @@ class RefusedTest(unittest.TestCase):
 
     def test_no_other_refusal(self):
         chance = random.Random(346)
-        asked = ["look", "let by", "mend", "text", "run f 1", "run f", "run main 1 2", "why claim 3", "why", "", "run g []",
-                 "run f [1]"]
+        asked = ["look", "let by", "mend", "text", "run f 1", "run f", "run main 1 2", "why claim 3", "why", "",
+                 "run g []", "run f [1]"]
         for _ in range(25):
             rows = DrawnSense(chance).rows
             if chance.random() < 0.4:

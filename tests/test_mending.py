@@ -86,7 +86,8 @@ class CandidatesTest(MendedTest):
                 ("i < n or i < m", ["0 <= i"]), ("n - i > 0", ["-i + n >= 0", "0 <= i", "i <= n"])):
             found = self.put_in("helper f n m", "needs 0 <= n and 0 <= m", "while " + condition, "let i = i + 1",
                                 "end", "end")
-            self.assertEqual([row for row in found if first_word(row) == "holds"], ["holds " + each for each in expected])
+            holds = [row for row in found if first_word(row) == "holds"]
+            self.assertEqual(holds, ["holds " + each for each in expected])
 
     def test_downwards(self):
         rows = ["helper f n", "needs n >= 0", "let i = n", "while i > 0", "let i = i - 1", "end", "claim i = 0", "end"]
@@ -216,7 +217,8 @@ class FallsTest(MendedTest):
         for condition, step, expected in (
                 ("i < n", "+ 1", "-i + n"), ("i <= n", "+ 1", "-i + n"), ("i > n", "- 1", "i - n"),
                 ("i >= n", "- 1", "i - n"), ("n > i", "+ 1", "-i + n"), ("n >= i", "+ 2", "-i + n"),
-                ("n < i", "- 1", "i - n"), ("n <= i", "- 3", "i - n"), ("2*i + 1 < 3*n + #a", "+ 1", "#a - 2*i + 3*n - 1"),
+                ("n < i", "- 1", "i - n"), ("n <= i", "- 3", "i - n"),
+                ("2*i + 1 < 3*n + #a", "+ 1", "#a - 2*i + 3*n - 1"),
                 ("i < 4 - i", "+ 1", "-2*i + 4")):
             rows = ["helper f n #a", "while " + condition, "let i = i " + step, "end", "end"]
             self.assertEqual(self.falls(*rows), ["falls " + expected], condition)
@@ -229,7 +231,8 @@ class FallsTest(MendedTest):
         self.assertEqual(self.falls("helper f n", "while i < n", "if x > 0", "let i = i + 1", "end", "end", "end"), [])
 
     def test_it_falls_by_what_is_put_in(self):
-        rows = ["helper f n", "let x = 1", "while i < n", "holds x >= 1", "let i = i + x", "let x = x + 1", "end", "end"]
+        rows = ["helper f n", "let x = 1", "while i < n", "holds x >= 1", "let i = i + x", "let x = x + 1", "end",
+                "end"]
         self.assertEqual(self.falls(*rows), ["falls -i + n"])
         rows = ["helper f n", "while i < n", "let i = i + x + 1", "let x = x + i", "end", "end"]
         self.assertEqual(self.put_in(*rows), ["holds 0 <= i", "holds 0 <= x", "falls -i + n"])
@@ -246,7 +249,8 @@ class FallsTest(MendedTest):
 
     def test_terms(self):
         def loop(one, other):
-            return ["helper f #p #q a b", f"while {' + '.join(one)} < {' + '.join(other)}", "let c = c + 1", "end", "end"]
+            condition = f"{' + '.join(one)} < {' + '.join(other)}"
+            return ["helper f #p #q a b", "while " + condition, "let c = c + 1", "end", "end"]
 
         eight = self.falls(*loop(["c", "d", "e", "g"], ["#p", "#q", "a", "b"]))
         self.assertEqual(eight, ["falls #p + #q + a + b - c - d - e - g"])
@@ -258,7 +262,8 @@ class FallsTest(MendedTest):
         for one, other, expected in (
                 ("999999999*i", "n", ["falls -999999999*i + n"]), ("i", "n + 999999999", ["falls -i + n + 999999999"]),
                 ("500000000*i", "n - 500000000*i", []), ("499999999*i", "n - 500000000*i", ["falls -999999999*i + n"]),
-                ("i - 500000000", "n + 500000000", []), ("i - 500000000", "n + 499999999", ["falls -i + n + 999999999"]),
+                ("i - 500000000", "n + 500000000", []),
+                ("i - 500000000", "n + 499999999", ["falls -i + n + 999999999"]),
                 ("i + 500000000*n", "-500000000*n", []), ("i + 500000000", "n - 500000000", []),
                 ("i + 999999999", "n + 999999999", ["falls -i + n"])):
             rows = ["helper f n", f"while {one} < {other}", "let i = i + 1", "end", "end"]
@@ -316,7 +321,8 @@ class LoopsTest(MendedTest):
         self.assertEqual(len([row for row in found if first_word(row) == "falls"]), 5)
         for name in "abcde":
             self.assertIn(f"holds {name} <= 3", found)
-        self.assertEqual(outcome(program_of(*found), "f", [1], 10000), outcome(program_of(*rows, "end"), "f", [1], 10000))
+        self.assertEqual(outcome(program_of(*found), "f", [1], 10000),
+                         outcome(program_of(*rows, "end"), "f", [1], 10000))
 
     def test_several_helpers(self):
         one = ["helper f n", "while i < n", "let i = i + 1", "end", "end"]
@@ -331,8 +337,9 @@ class LoopsTest(MendedTest):
             self.assertIs(let_by(program_of(*once)), True)
             twice = self.mend(*once)
             self.assertIs(let_by(program_of(*twice)), True)
-            falls = [[row for row in each if first_word(row) == "falls"] for each in (rows_of(program_of(*rows)), twice)]
-            self.assertEqual(falls[0], falls[1])
+            first = rows_of(program_of(*rows))
+            falls, falls_behind = [[row for row in each if first_word(row) == "falls"] for each in (first, twice)]
+            self.assertEqual(falls, falls_behind)
 
     def test_without_loops(self):
         for rows in (["helper f", "end"], ["helper f n", "claim n = 3", "if n > 0", "end", "end"]):

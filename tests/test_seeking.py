@@ -64,8 +64,11 @@ def same(answer):
 
 
 def plain_paper(paper):
-    return tuple(("split", told_sum(line[1]), plain_paper(line[2]), plain_paper(line[3])) if line[0] == "split" else line
-                 for line in paper)
+    return tuple(plain_split(line) if line[0] == "split" else line for line in paper)
+
+
+def plain_split(line):
+    return ("split", told_sum(line[1]), plain_paper(line[2]), plain_paper(line[3]))
 
 
 class PlainTest(SoughtTest):
