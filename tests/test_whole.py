@@ -142,8 +142,8 @@ class MendedTest(unittest.TestCase):
     def test_bare_programs_are_let_by_once_they_are_mended(self):
         bare = [row for row in COUNT if first_word(row) not in ("holds", "falls", "gives")]
         bare += ["helper total #a", "answers s", "while i < #a", "let x = a at i", "let s = s + x", "let i = i + 1",
-                 "end", "end", "helper fill #a x", "let i = #a - 1", "while i >= 0", "put a at i = x", "let i = i - 1", "end",
-                 "end"]
+                 "end", "end", "helper fill #a x", "let i = #a - 1", "while i >= 0", "put a at i = x",
+                 "let i = i - 1", "end", "end"]
         program = program_of(*bare)
         self.assertIs(let_by(program), False)
         better = mended(program)
